@@ -113,14 +113,14 @@ func isLegal(set []impl.Task, jobs []impl.Job) bool {
 	return true
 }
 
-// edfByScan looks through all jobs in every tick.
-func edfByScan(jobs []impl.Job) impl.Schedule {
+// runByScan looks through all jobs in every tick, and takes the first one that none comes before.
+func runByScan(jobs []impl.Job, before func(a, b impl.Job) bool) impl.Schedule {
 	s := impl.Schedule{Run: slices.Repeat([]int{-1}, 120), Finish: slices.Repeat([]int{-1}, len(jobs))}
 	done := make([]int, len(jobs))
 	for now := range 120 {
 		best := -1
 		for i, job := range jobs {
-			if job.Release <= now && done[i] < job.Exec && (best == -1 || job.Deadline < jobs[best].Deadline) {
+			if job.Release <= now && done[i] < job.Exec && (best == -1 || before(job, jobs[best])) {
 				best = i
 			}
 		}
@@ -134,6 +134,10 @@ func edfByScan(jobs []impl.Job) impl.Schedule {
 		}
 	}
 	return s
+}
+
+func edfByScan(jobs []impl.Job) impl.Schedule {
+	return runByScan(jobs, func(a, b impl.Job) bool { return a.Deadline < b.Deadline })
 }
 
 // missedBy lists the jobs that are late or unfinished, from the ticks in which they run and not from their finish times.
